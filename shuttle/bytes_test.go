@@ -6,6 +6,7 @@ import (
 	"testing"
 
 	"shuttle/api"
+	"shuttle/shuttle"
 )
 
 // wellTold holds an answer against what every answer to this text must keep to.
@@ -31,6 +32,38 @@ func wellTold(t *testing.T, text string) {
 	}
 	if again := checked(text); again != got {
 		t.Errorf("P2: Check(%.200q) = %d, then %d", text, got, again)
+	}
+	m, errno, line := shuttle.Load(text)
+	if loaded := (answer{errno, line}); loaded != got || (m != nil) != (errno == api.OK) {
+		t.Errorf("P6: Load(%.200q) = %v, %d, but Check %d", text, m, loaded, got)
+	}
+	if m != nil {
+		wellRun(t, m, text)
+	}
+}
+
+// wellRun holds what a machine tells against what every machine must keep to.
+func wellRun(t *testing.T, m *shuttle.Machine, text string) {
+	t.Helper()
+	if m.Time() != 0 {
+		t.Errorf("P6: %.200q: the time is %d at first", text, m.Time())
+	}
+	for _, steps := range []int{least, -1, 0, 1, 0, 7, 30, 1} {
+		time := m.Time()
+		done, stands := m.Run(steps)
+		if done < 0 || done > max(steps, 0) || stands < api.Ready || stands > api.Faulty {
+			t.Errorf("P7: %.200q: Run(%d) = %d, %d", text, steps, done, stands)
+		}
+		if done < steps && stands == api.Ready {
+			t.Errorf("P7: %.200q: Run(%d) = %d, and more could be done", text, steps, done)
+		}
+		if m.Time() < time || steps <= 0 && m.Time() != time {
+			t.Errorf("P7: %.200q: behind Run(%d) the time is %d, and was %d", text, steps, m.Time(), time)
+		}
+		if out := m.Out(); len(out) > done {
+			t.Errorf("P8: %.200q: Out() = %v by %d steps", text, out, done)
+		}
+		m.Feed(steps)
 	}
 }
 

@@ -232,6 +232,7 @@ func TestManyTextsForNamesAndSharing(t *testing.T) {
 		if got := checked(text); got != want {
 			t.Fatalf("P4, P5: Check(%q) = %d, want %d", text, got, want)
 		}
+		wellTold(t, text)
 		seen[want.errno]++
 	}
 	for _, errno := range []api.Errno{api.OK, api.ErrName, api.ErrShare} {
