@@ -8,7 +8,7 @@ type maker struct {
 
 // Make turns a text whose names have been resolved into a program.
 func Make(root *tree.Process) Program {
-	m := &maker{}
+	m := &maker{Program{Room: tree.FirstDecl}}
 	m.process(root)
 	m.add(End, 0)
 	return m.program
@@ -22,19 +22,27 @@ func (m *maker) add(kind Kind, arg int) int {
 
 func (m *maker) next() int { return len(m.program.Code) }
 
-// aim lets a jump go to what comes next.
-func (m *maker) aim(jump int) { m.program.Code[jump].Arg = m.next() }
+// aim lets instructions go to what comes next.
+func (m *maker) aim(those ...int) {
+	for _, at := range those {
+		m.program.Code[at].Arg = m.next()
+	}
+}
 
 func (m *maker) process(p *tree.Process) {
 	switch p.Kind {
-	case tree.Seq, tree.Chan:
+	case tree.Seq:
 		m.below(p)
-	case tree.Var:
-		m.variable(p)
+	case tree.Var, tree.Chan:
+		m.declaration(p)
 	case tree.While:
 		m.while(p)
 	case tree.If:
 		m.choice(p)
+	case tree.Alt:
+		m.alt(p)
+	case tree.Par, tree.Pri:
+		m.beside(p)
 	default:
 		m.line(p)
 	}
@@ -46,9 +54,11 @@ func (m *maker) below(p *tree.Process) {
 	}
 }
 
-func (m *maker) variable(p *tree.Process) {
+func (m *maker) declaration(p *tree.Process) {
 	m.program.Room = max(m.program.Room, p.Name.Decl+1)
-	m.add(Zero, p.Name.Decl)
+	if p.Kind == tree.Var {
+		m.add(Zero, p.Name.Decl)
+	}
 	m.below(p)
 }
 
@@ -73,16 +83,70 @@ func (m *maker) choice(p *tree.Process) {
 		m.aim(pass)
 	}
 	m.add(Hold, 0)
-	for _, jump := range leave {
-		m.aim(jump)
+	m.aim(leave...)
+}
+
+// alt asks all its branches ahead of reading, as one step.
+func (m *maker) alt(p *tree.Process) {
+	m.add(Step, 0)
+	var branches []int
+	for _, on := range p.Below {
+		branches = append(branches, m.branch(on))
 	}
+	m.add(Read, 0)
+	var leave []int
+	for i, on := range p.Below {
+		m.land(branches[i])
+		m.below(on)
+		leave = append(leave, m.add(Jump, 0))
+	}
+	m.aim(leave...)
+}
+
+// branch opens a way to read, unless its expr is 0, and tells its number.
+func (m *maker) branch(p *tree.Process) int {
+	number := len(m.program.Branches)
+	m.program.Branches = append(m.program.Branches, Branch{Channel: p.Channel.Decl, Into: p.Name.Decl})
+	if p.Expr == nil {
+		m.add(Open, number)
+		return number
+	}
+	m.expr(p.Expr)
+	pass := m.add(Unless, 0)
+	m.add(Open, number)
+	m.aim(pass)
+	return number
+}
+
+// land lets a branch go on at what comes next.
+func (m *maker) land(branch int) { m.program.Branches[branch].At = m.next() }
+
+// beside lays the code of those that are begun behind that of who begins them.
+func (m *maker) beside(p *tree.Process) {
+	m.add(Step, 0)
+	var begins []int
+	for i := range p.Below {
+		kind := Begin
+		if p.Kind == tree.Pri && i == 0 {
+			kind = BeginUrgent
+		}
+		begins = append(begins, m.add(kind, 0))
+	}
+	join := m.add(Join, 0)
+	for i, process := range p.Below {
+		m.aim(begins[i])
+		m.process(process)
+		m.add(End, 0)
+	}
+	m.aim(join)
 }
 
 // line makes the code of a line that is one step whole.
 func (m *maker) line(p *tree.Process) {
 	m.add(Step, 0)
 	switch p.Kind {
-	case tree.Skip:
+	case tree.Stop:
+		m.add(Hold, 0)
 	case tree.Becomes:
 		m.expr(p.Expr)
 		m.add(Store, p.Name.Decl)
@@ -93,31 +157,23 @@ func (m *maker) line(p *tree.Process) {
 		m.write(p)
 	case tree.Read:
 		m.read(p)
-	default:
-		// Beside stop these are par, pri and alt, which no machine carries
-		// out as yet.
-		m.add(Hold, 0)
 	}
 }
 
-// write lets who writes to a channel of the text wait for ever: as long as
-// nothing stands beside it, nobody reads.
 func (m *maker) write(p *tree.Process) {
 	m.expr(p.Expr)
 	if p.Channel.Decl == tree.OutDecl {
 		m.add(WriteOut, 0)
 		return
 	}
-	m.add(Hold, 0)
+	m.add(Write, p.Channel.Decl)
 }
 
-// read is as write: from a channel of the text there is nothing to read.
+// read is an alt of one branch that is always open, with nothing below it.
 func (m *maker) read(p *tree.Process) {
-	if p.Channel.Decl == tree.InDecl {
-		m.add(ReadIn, p.Name.Decl)
-		return
-	}
-	m.add(Hold, 0)
+	only := m.branch(p)
+	m.add(Read, 0)
+	m.land(only)
 }
 
 func (m *maker) expr(e *tree.Expr) {

@@ -12,26 +12,31 @@ type action func(m *Machine, arg int)
 // actions is the table of what each kind of instruction does.
 func actions() [code.Kinds]action {
 	return [code.Kinds]action{
-		code.Step:      (*Machine).step,
-		code.Number:    (*Machine).put,
-		code.Variable:  (*Machine).variable,
-		code.Add:       (*Machine).add,
-		code.Subtract:  (*Machine).subtract,
-		code.Multiply:  (*Machine).multiply,
-		code.Divide:    (*Machine).divide,
-		code.Remainder: (*Machine).remainder,
-		code.Equal:     (*Machine).equal,
-		code.Less:      (*Machine).less,
-		code.More:      (*Machine).more,
-		code.Zero:      (*Machine).zero,
-		code.Store:     (*Machine).store,
-		code.WriteOut:  (*Machine).writeOut,
-		code.ReadIn:    (*Machine).readIn,
-		code.Sleep:     (*Machine).sleep,
-		code.Unless:    (*Machine).unless,
-		code.Jump:      (*Machine).jump,
-		code.Hold:      (*Machine).hold,
-		code.End:       (*Machine).end,
+		code.Step:        (*Machine).step,
+		code.Number:      (*Machine).put,
+		code.Variable:    (*Machine).variable,
+		code.Add:         (*Machine).add,
+		code.Subtract:    (*Machine).subtract,
+		code.Multiply:    (*Machine).multiply,
+		code.Divide:      (*Machine).divide,
+		code.Remainder:   (*Machine).remainder,
+		code.Equal:       (*Machine).equal,
+		code.Less:        (*Machine).less,
+		code.More:        (*Machine).more,
+		code.Zero:        (*Machine).zero,
+		code.Store:       (*Machine).store,
+		code.WriteOut:    (*Machine).writeOut,
+		code.Write:       (*Machine).write,
+		code.Open:        (*Machine).open,
+		code.Read:        (*Machine).read,
+		code.Sleep:       (*Machine).sleep,
+		code.Unless:      (*Machine).unless,
+		code.Jump:        (*Machine).jump,
+		code.Hold:        (*Machine).hold,
+		code.Begin:       (*Machine).begin,
+		code.BeginUrgent: (*Machine).beginUrgent,
+		code.Join:        (*Machine).join,
+		code.End:         (*Machine).end,
 	}
 }
 
@@ -62,6 +67,12 @@ func (m *Machine) putTruth(holds bool) {
 
 // leave ends what the current process does at a time: it waits, or is at its end.
 func (m *Machine) leave() { m.current = nil }
+
+// wait lets the current process wait until it is told.
+func (m *Machine) wait(told func(channel, n int)) {
+	m.current.told = told
+	m.leave()
+}
 
 func (m *Machine) fault() {
 	m.faulty = true
@@ -124,15 +135,29 @@ func (m *Machine) store(place int) { m.variables[place] = m.take() }
 
 func (m *Machine) writeOut(int) { m.written = append(m.written, m.take()) }
 
-func (m *Machine) readIn(place int) {
-	if len(m.fed) > 0 {
-		m.variables[place], m.fed = m.fed[0], m.fed[1:]
-		return
+func (m *Machine) write(place int) {
+	if !m.send(place, m.take()) {
+		m.channels[place].writer = m.current
+		m.wait(m.current.isWoken)
 	}
+}
+
+func (m *Machine) open(branch int) {
+	m.current.open = append(m.current.open, m.branches[branch])
+}
+
+func (m *Machine) read(int) {
 	p := m.current
-	p.into, p.told = place, p.hasRead
-	m.reader = p
-	m.leave()
+	for _, branch := range p.open {
+		if from := &m.channels[branch.Channel]; from.canBeRead() {
+			p.follow(branch, from.receive())
+			return
+		}
+	}
+	for _, branch := range p.open {
+		m.channels[branch.Channel].reader = p
+	}
+	m.wait(p.hasRead)
 }
 
 func (m *Machine) sleep(int) {
@@ -142,10 +167,8 @@ func (m *Machine) sleep(int) {
 		return
 	}
 	if length > 0 {
-		p := m.current
-		p.told = p.isWoken
-		m.fallAsleep(p, length)
-		m.leave()
+		m.fallAsleep(m.current, length)
+		m.wait(m.current.isWoken)
 	}
 }
 
@@ -159,7 +182,32 @@ func (m *Machine) jump(at int) { m.current.at = at }
 
 func (m *Machine) hold(int) { m.leave() }
 
+func (m *Machine) begin(at int) { m.beginNew(at, m.current.urgent) }
+
+func (m *Machine) beginUrgent(at int) { m.beginNew(at, true) }
+
+func (m *Machine) beginNew(at int, urgent bool) {
+	m.current.below++
+	p := &process{machine: m, above: m.current, urgent: urgent, at: at}
+	p.goOn()
+}
+
+func (m *Machine) join(at int) {
+	m.jump(at)
+	if m.current.below > 0 {
+		m.wait(m.current.isWoken)
+	}
+}
+
 func (m *Machine) end(int) {
-	m.ended = true
+	above := m.current.above
 	m.leave()
+	if above == nil {
+		m.ended = true
+		return
+	}
+	above.below--
+	if above.below == 0 {
+		above.told(0, 0)
+	}
 }

@@ -10,15 +10,16 @@ import (
 // of numbers is empty: only within one are exprs reckoned.
 type Machine struct {
 	code      []code.Instruction
+	branches  []code.Branch
 	variables []int
+	channels  []channel
 	stack     []int
 	current   *process
-	line      []*process
+	urgent    line
+	others    line
 	asleep    sleepers
 	slept     int // how many fell asleep so far
 	time      int
-	fed       []int
-	reader    *process
 	written   []int
 	ended     bool
 	faulty    bool
@@ -26,21 +27,18 @@ type Machine struct {
 
 // New makes a machine that stands ahead of the first step.
 func New(program code.Program) *Machine {
-	m := &Machine{code: program.Code, variables: make([]int, program.Room)}
+	m := &Machine{
+		code:      program.Code,
+		branches:  program.Branches,
+		variables: make([]int, program.Room),
+		channels:  make([]channel, program.Room),
+	}
 	m.current = &process{machine: m}
 	return m
 }
 
 // Feed hands a number in.
-func (m *Machine) Feed(n int) {
-	reader := m.reader
-	if reader == nil {
-		m.fed = append(m.fed, n)
-		return
-	}
-	m.reader = nil
-	reader.told(n)
-}
+func (m *Machine) Feed(n int) { m.send(code.In, n) }
 
 // Run does as many steps as can be, at most so many. It tells how many that
 // were, and how the machine stands then.
@@ -72,19 +70,21 @@ func (m *Machine) Out() []int {
 // Time tells the time.
 func (m *Machine) Time() int { return m.time }
 
+func (m *Machine) someCanGoOn() bool { return len(m.urgent) > 0 || len(m.others) > 0 }
+
 // makeCurrent lets the first one that can go on do so, if there is one.
 func (m *Machine) makeCurrent() bool {
 	if m.faulty {
 		return false
 	}
-	if len(m.line) == 0 {
+	if !m.someCanGoOn() {
 		m.wakeNext()
 	}
-	if len(m.line) == 0 {
-		return false
+	m.current = m.urgent.takeFirst()
+	if m.current == nil {
+		m.current = m.others.takeFirst()
 	}
-	m.current, m.line = m.line[0], m.line[1:]
-	return true
+	return m.current != nil
 }
 
 func (m *Machine) stands() int {
@@ -93,9 +93,9 @@ func (m *Machine) stands() int {
 		return api.Faulty
 	case m.ended:
 		return api.Ended
-	case m.current != nil || len(m.line) > 0 || len(m.asleep) > 0:
+	case m.current != nil || m.someCanGoOn() || len(m.asleep) > 0:
 		return api.Ready
-	case m.reader != nil:
+	case m.channels[code.In].reader != nil:
 		return api.Wants
 	}
 	return api.Stopped

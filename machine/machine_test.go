@@ -9,6 +9,15 @@ import (
 	"shuttle/code"
 )
 
+// program is of instructions that need no Arg, and has room for what comes in.
+func program(kinds ...code.Kind) code.Program {
+	p := code.Program{Room: code.In + 1}
+	for _, kind := range kinds {
+		p.Code = append(p.Code, code.Instruction{Kind: kind})
+	}
+	return p
+}
+
 func TestEveryKindHasAnAction(t *testing.T) {
 	for kind, act := range actions() {
 		if act == nil {
@@ -22,7 +31,7 @@ func TestEveryKindHasAnAction(t *testing.T) {
 func TestOrderOfSleepers(t *testing.T) {
 	r := rand.New(rand.NewSource(3))
 	for count := range 40 {
-		m := New(code.Program{})
+		m := New(program())
 		m.time = 10
 		lengths := make([]int, count)
 		var want []int
@@ -35,13 +44,13 @@ func TestOrderOfSleepers(t *testing.T) {
 		}
 		slices.SortStableFunc(want, func(a, b int) int { return lengths[a] - lengths[b] })
 		for len(want) > 0 {
-			m.line = nil
+			m.others = nil
 			m.wakeNext()
 			length := lengths[want[0]]
 			if m.time != 10+length {
 				t.Fatalf("P7: of %v the time is %d, want %d", lengths, m.time, 10+length)
 			}
-			for _, p := range m.line {
+			for _, p := range m.others {
 				if len(want) == 0 || p.at != want[0] || lengths[p.at] != length {
 					t.Fatalf("P7: of %v is %d woken at %d, want %v", lengths, p.at, m.time, want)
 				}
@@ -51,19 +60,17 @@ func TestOrderOfSleepers(t *testing.T) {
 				t.Fatalf("P7: of %v is %d not woken at %d", lengths, want[0], m.time)
 			}
 		}
-		m.line = nil
+		m.others = nil
 		time := m.time
-		if m.wakeNext(); len(m.line) > 0 || m.time != time {
-			t.Fatalf("P7: where none sleeps, %d are woken, and the time is %d", len(m.line), m.time)
+		if m.wakeNext(); len(m.others) > 0 || m.time != time {
+			t.Fatalf("P7: where none sleeps, %d are woken, and the time is %d", len(m.others), m.time)
 		}
 	}
 }
 
-var skips = code.Program{Code: []code.Instruction{{Kind: code.Step}, {Kind: code.Step}, {Kind: code.End}}}
-
 // As long as one stands in a line, no time goes on.
 func TestLineGoesAheadOfSleepers(t *testing.T) {
-	m := New(skips)
+	m := New(program(code.Step, code.Step, code.End))
 	m.current.goOn()
 	m.leave()
 	sleeper := &process{machine: m}
@@ -76,7 +83,7 @@ func TestLineGoesAheadOfSleepers(t *testing.T) {
 
 // A fault stops those that could go on as well.
 func TestFaultStopsAll(t *testing.T) {
-	m := New(skips)
+	m := New(program(code.Step, code.Step, code.End))
 	lined, sleeper := &process{machine: m}, &process{machine: m}
 	lined.goOn()
 	sleeper.told = sleeper.isWoken
@@ -89,7 +96,7 @@ func TestFaultStopsAll(t *testing.T) {
 
 // Exprs leave nothing behind them, however many are reckoned.
 func TestStackIsEmptyBetweenSteps(t *testing.T) {
-	m := New(code.Program{Code: []code.Instruction{
+	m := New(code.Program{Room: code.In + 1, Code: []code.Instruction{
 		{Kind: code.Step}, {Kind: code.Number, Arg: 1}, {Kind: code.Number, Arg: 2}, {Kind: code.Less}, {Kind: code.Unless, Arg: 9},
 		{Kind: code.Step}, {Kind: code.Number, Arg: 0}, {Kind: code.Sleep}, {Kind: code.Jump}, {Kind: code.End},
 	}})

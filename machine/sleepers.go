@@ -46,6 +46,6 @@ func (m *Machine) wakeNext() {
 	m.time = m.asleep[0].wakes
 	for len(m.asleep) > 0 && m.asleep[0].wakes == m.time {
 		woken := heap.Pop(&m.asleep).(sleeper)
-		woken.process.told(0)
+		woken.process.told(0, 0)
 	}
 }

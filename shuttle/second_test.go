@@ -12,13 +12,14 @@ import (
 	"shuttle/shuttle"
 )
 
-// node is a process of a text that nothing stands beside in, or, with the word
-// when, a choice of an if.
+// node is a process of a text or, with the words when and on, what stands
+// below an if and an alt.
 type node struct {
-	word  string
-	name  string
-	expr  *sum
-	below []*node
+	word    string
+	name    string
+	channel string
+	expr    *sum
+	below   []*node
 }
 
 // sum is an expr: a number, a name, or two with a sign between.
@@ -44,16 +45,21 @@ func (s *sum) operand() string {
 func (n *node) rows(depth int) []string {
 	row := n.word
 	switch n.word {
-	case "var":
+	case "var", "chan":
 		row += " " + n.name
 	case "while", "when", "wait":
 		row += " " + n.expr.String()
 	case "becomes":
 		row = n.name + " := " + n.expr.String()
-	case "out":
-		row = "out ! " + n.expr.String()
-	case "in":
-		row = "in ? " + n.name
+	case "write":
+		row = n.channel + " ! " + n.expr.String()
+	case "read":
+		row = n.channel + " ? " + n.name
+	case "on":
+		if n.expr != nil {
+			row += " " + n.expr.String() + " &"
+		}
+		row += " " + n.channel + " ? " + n.name
 	}
 	all := []string{in(depth) + row}
 	for _, below := range n.below {
@@ -98,9 +104,9 @@ func (a author) process(depth int) *node {
 	case 1, 2, 3:
 		return &node{word: "becomes", name: a.name(), expr: a.expr(3)}
 	case 4, 5:
-		return &node{word: "out", expr: a.expr(3)}
+		return &node{word: "write", channel: "out", expr: a.expr(3)}
 	case 6:
-		return &node{word: "in", name: a.name()}
+		return &node{word: "read", channel: "in", name: a.name()}
 	case 7:
 		if a.Intn(8) == 0 {
 			return &node{word: "stop"}
@@ -128,10 +134,11 @@ func (a author) text() *node {
 	return body
 }
 
-// scope is what a var line declares, within those above it.
+// scope is what a var or chan line declares, within those above it.
 type scope struct {
 	name  string
 	value int
+	pipe  *pipe
 	above *scope
 }
 
@@ -192,10 +199,10 @@ func (h *history) do(n *node, s *scope) {
 	case "becomes":
 		h.step()
 		s.find(n.name).value = reckon(n.expr, s)
-	case "out":
+	case "write":
 		step := h.step()
 		step.writes = []int{reckon(n.expr, s)}
-	case "in":
+	case "read":
 		h.step().reads = true
 		if len(h.comes) == 0 {
 			panic(over{api.Wants})
@@ -214,7 +221,7 @@ func (h *history) do(n *node, s *scope) {
 			h.do(below, s)
 		}
 	case "var":
-		h.do(n.below[0], &scope{n.name, 0, s})
+		h.do(n.below[0], &scope{name: n.name, above: s})
 	case "while":
 		for h.step(); reckon(n.expr, s) != 0; h.step() {
 			h.do(n.below[0], s)
